@@ -1,0 +1,1 @@
+"""Onlyseen: sayings in which each answer sees only some of the picks."""
