@@ -3,7 +3,7 @@
 from onlyseen.answers import fixed, holds, many, nth, place
 from onlyseen.errors import InvalidNumber, NoAnswers
 from tests import oracle
-from tests.guard import Guarded
+from tests.guard import Guarded, picture
 from tests.samples import (
     BARRED, BETWEEN, EMPTY, NO_CLAUSES, NO_OWNS, NO_PICKS, SAYINGS, SMALL, WITH_EMPTY_CLAUSE, WITHOUT_ANSWERS,
     some_sayings,
@@ -100,6 +100,15 @@ class Counting(Guarded):
             for number in (-1, -2, -100, -10 ** 30):
                 self.assert_refused(InvalidNumber, number, lambda: nth(saying, number))
                 self.assert_refused(InvalidNumber, number, lambda: nth(number=number, saying=saying))
+
+    def test_no_object_of_another_kind_is_a_number(self):
+        # The document names no error for these; an answer they have not.
+        for wrong in (None, "", "1", b"1", [], [1], [[1]], (), (1,), ({},), {}, {1: [2]}, set(), {1}, frozenset()):
+            before = picture(wrong)
+            for call in (lambda: nth(SMALL, wrong), lambda: nth(number=wrong, saying=SMALL)):
+                with self.assertRaises((InvalidNumber, TypeError)):
+                    call()
+            self.assertEqual(picture(wrong), before)
 
     def test_the_list_of_fixed_is_new_each_time(self):
         first = fixed(SMALL)

@@ -6,11 +6,19 @@ from onlyseen.answers import answers_with, broken_at, holds, value_of
 from tests import oracle
 from tests.guard import Guarded
 from tests.samples import (
-    BARRED, BETWEEN, EMPTY, NO_CLAUSES, NO_OWNS, NO_PICKS, PICKS, SAYINGS, SMALL, THREE, WITH_EMPTY_CLAUSE,
-    WITHOUT_ANSWERS, largest_sayings, sayings_of_24, some_answers, some_sayings,
+    BARRED, BETWEEN, EIGHT_OWNS, EMPTY, LARGEST_OWNS, NO_CLAUSES, NO_OWNS, NO_PICKS, PICKS, SAYINGS, SMALL, THREE,
+    WITH_EMPTY_CLAUSE, WITHOUT_ANSWERS, largest_sayings, sayings_of_24, some_answers, some_sayings,
 )
 
 F, T = False, True
+
+
+def only_at(owns, answers, play, agrees):
+    """The clause of all names that can be broken at this play alone; it is broken there unless the owns agree."""
+    letters = [(pick, not truth) for pick, truth in zip(PICKS, play)]
+    for name, _ in owns:
+        letters.append((name, oracle.value_of((PICKS, owns, ()), answers, name, play) is agrees))
+    return tuple(sorted(letters))
 
 
 class Holding(Guarded):
@@ -42,26 +50,21 @@ class Holding(Guarded):
             for _ in range(5):
                 self.check(saying, some_answers(rng, saying))
 
-    def test_a_largest_one_that_holds_and_one_broken_at_the_last_play_alone(self):
-        # By parity of what it sees an own is no constant, so a clause for each wrong truth bars all other answers.
-        for saying in largest_sayings()[:1] + largest_sayings()[2:3]:
+    def test_largest_ones_that_hold_or_are_broken_at_the_last_play_alone(self):
+        for owns in (LARGEST_OWNS, EIGHT_OWNS):
             rng = random.Random(10)
-            answers = some_answers(rng, saying)
-            clauses = []
-            for clause in saying[2]:
-                play = tuple(not truth for _, truth in clause if _ in PICKS)
-                owns = [(name, oracle.value_of(saying, answers, name, play)) for name, _ in saying[1]]
-                clauses.append(tuple(sorted(owns + [(name, not truth) for name, truth in zip(PICKS, play)])))
-            true = (PICKS, saying[1], tuple(sorted(set(clauses))))
-            self.assertIsNone(broken_at(true, answers))
-            self.assertIs(holds(true, answers), True)
-            last = tuple((name, F) for name in PICKS)
-            wrong = [(name, not oracle.value_of(saying, answers, name, (T,) * 6)) for name, _ in saying[1]]
-            barred = tuple(sorted(set(clauses[:-1]) | {tuple(sorted(wrong + list(last)))}))
-            index = barred.index(tuple(sorted(wrong + list(last))))
-            if oracle.broken_at((PICKS, saying[1], barred), answers) == (index, (T,) * 6):
-                self.assert_same(broken_at((PICKS, saying[1], barred), answers), (index, (T,) * 6))
-                self.assertIs(holds((PICKS, saying[1], barred), answers), False)
+            answers = some_answers(rng, (PICKS, owns, ()))
+            ahead = oracle.plays((PICKS, owns, ()))[:-1]
+            for _ in range(5):
+                right = [only_at(owns, answers, play, True) for play in rng.sample(ahead, 39)]
+                saying = (PICKS, owns, tuple(sorted(right)))
+                self.assertIsNone(broken_at(saying, answers))
+                self.assertIs(holds(saying, answers), True)
+                wrong = only_at(owns, answers, (T,) * 6, False)
+                clauses = tuple(sorted(right + [wrong]))
+                saying = (PICKS, owns, clauses)
+                self.assert_same(broken_at(saying, answers), (clauses.index(wrong), (T,) * 6))
+                self.assertIs(holds(saying, answers), False)
 
     def test_the_first_play_goes_ahead_of_the_first_clause(self):
         saying = (("x",), (("a", ()),), ((("a", T), ("x", F)), (("a", T), ("x", T))))
