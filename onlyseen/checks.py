@@ -56,6 +56,12 @@ def want_own(saying, name):
         raise InvalidName(renewed(name))
 
 
+def want_pick(saying, pick):
+    """Raises InvalidName for any object that is no pick of the saying."""
+    if not is_name(pick) or pick not in saying[0]:
+        raise InvalidName(renewed(pick))
+
+
 def want_number(number):
     """Raises InvalidNumber for any object that is no integer from 0 on."""
     if not is_integer(number) or number < 0:

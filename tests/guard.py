@@ -1,9 +1,12 @@
 """What several tests need: a limit of time, and a strict look at objects and at errors."""
 
 import signal
+import sys
+import time
 import unittest
 
 SECONDS = 120
+MOST_SECONDS = 10
 
 
 class Guarded(unittest.TestCase):
@@ -44,6 +47,28 @@ class Guarded(unittest.TestCase):
         self.assert_same(caught.exception.value, wrong)
         self.assert_new(caught.exception.value, wrong)
         self.assertEqual(picture(wrong), before, "what was passed has changed")
+
+
+class Timed(Guarded):
+    """A test that tells, behind its class, how long the slowest call of each function took."""
+
+    @classmethod
+    def setUpClass(cls):
+        cls.slowest = {}
+
+    @classmethod
+    def tearDownClass(cls):
+        told = [f"{name} {seconds:.2f} s" for name, seconds in sorted(cls.slowest.items())]
+        print(f"\n{cls.__module__}.{cls.__name__}, slowest calls: {', '.join(told)}", file=sys.stderr)
+
+    def timed(self, function, *passed):
+        """What the function returns; it has to return within seconds."""
+        start = time.perf_counter()
+        value = function(*passed)
+        took = time.perf_counter() - start
+        self.slowest[function.__name__] = max(took, self.slowest.get(function.__name__, 0))
+        self.assertLess(took, MOST_SECONDS, function.__name__)
+        return value
 
 
 def same(one, other):

@@ -217,6 +217,19 @@ class Truths:
     def many(self):
         return sum(bits.bit_count() for bits in self.chunks)
 
+    def without(self, marked):
+        """Whether the saying holds by some answers by which none of these marked letters is so."""
+        letters, allowed = self.split([(self.copies.index(one[:2]), one[2]) for one in marked])
+        for outer, bits in zip(itertools.product([False, True], repeat=self.ahead), self.chunks):
+            if bits & (self.every ^ allowed) and not any(outer[index] is wanted for index, wanted in letters):
+                return True
+        return False
+
+    def follows(self, which):
+        """Whether a clause has a letter that is so at each play, by all answers by which the saying holds."""
+        told = {letters_at(self.of, which, at) for at in plays(self.of)} - {None}
+        return not any(self.without(marked) for marked in told)
+
     def place(self, by):
         number = 0
         for part in by:
@@ -249,3 +262,49 @@ class Truths:
                     if bits & (self.every ^ mask):
                         met[self.ahead + index].add(False)
         return [(who, what, values.pop()) for (who, what), values in zip(self.copies, met) if len(values) == 1]
+
+
+def demands(of):
+    """All that the clauses tell at the plays: of each the number with bit 2 * place + truth for each letter."""
+    places = {copy: place for place, copy in enumerate(copies(of))}
+    told = {letters_at(of, which, at) for at in plays(of) for which in of[2]} - {None}
+    return sorted({sum(1 << 2 * places[one[:2]] + one[2] for one in marked) for marked in told})
+
+
+def contrary(bits):
+    """The contraries of letters."""
+    low = (4 ** 200 - 1) // 3
+    return (bits & low) << 1 | bits >> 1 & low
+
+
+def can_be_met(those, known=0):
+    """Whether demands can be met while these letters are so, by trying one letter after the other."""
+    while True:
+        against = contrary(known)
+        if known & against:
+            return False
+        those = [bits for bits in those if not bits & known]
+        rests = [bits & ~against for bits in those]
+        if 0 in rests:
+            return False
+        alone = [rest for rest in rests if not rest & (rest - 1)]
+        if not alone:
+            break
+        for rest in alone:
+            known |= rest
+    if not those:
+        return True
+    letter = min(rests, key=int.bit_count)
+    letter &= -letter
+    return can_be_met(those, known | letter) or can_be_met(those, known | contrary(letter))
+
+
+def first_row(of):
+    """The first answers by which a saying holds, copy by copy; None if there are none."""
+    those = demands(of)
+    known = 0
+    if not can_be_met(those):
+        return None
+    for place in range(len(copies(of))):
+        known |= 1 << 2 * place + (not can_be_met(those, known | 1 << 2 * place))
+    return answers_with(of, [bool(known >> 2 * place & 2) for place in range(len(copies(of)))])

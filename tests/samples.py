@@ -203,3 +203,92 @@ def sayings_of_24():
     found.append((PICKS, eights, (tuple((name, True) for name in "abcdefgh"),)))
     found.append((PICKS, eights, clauses_over(rng, PICKS, eights, 40, 0, 8)))
     return found
+
+
+def under(clauses, cube):
+    """The clauses, each asked for only where the picks have these truths."""
+    return [tuple(sorted(clause + tuple((pick, not truth) for pick, truth in cube))) for clause in clauses]
+
+
+def cubes_of(picks, many):
+    """Cubes of plays: the one where the first so many picks are True, and others that are all the other plays."""
+    ahead = [(pick, True) for pick in picks[:many]]
+    return ahead, [ahead[:k] + [(picks[k], False)] for k in range(many)]
+
+
+def odd_once(picks, owns, many):
+    """A saying: an odd number of the owns is True where the first picks are True, elsewhere an even one."""
+    names = [name for name, _ in owns]
+    once, others = cubes_of(picks, many)
+    clauses = under(odd_or_even(names, True), once)
+    for cube in others:
+        clauses += under(odd_or_even(names, False), cube)
+    return picks, owns, tuple(sorted(clauses))
+
+
+def all_but_one(picks, names):
+    """Owns each of which sees all picks but one."""
+    return tuple((name, tuple(other for other in picks if other != pick)) for name, pick in zip(names, picks))
+
+
+def parity_sayings():
+    """Sayings about odd and even numbers of owns: six without answers, three with some."""
+    fours = (("a", PICKS[:4]), ("b", PICKS[2:]), ("c", PICKS[:2] + PICKS[4:]))
+    fives = tuple((name, tuple(other for other in PICKS if other != pick)) for name, pick in zip("abc", "zyx"))
+    cube = odd_once(PICKS[2:], all_but_one(PICKS[2:], "abcd"), 4)
+    wider = tuple((name, ("u",) + sight) for name, sight in cube[1])
+    return [
+        odd_once(("x", "y"), all_but_one(("x", "y"), "ab"), 2),
+        odd_once(("x", "y", "z"), all_but_one(("x", "y", "z"), "abc"), 3),
+        odd_once(PICKS, fours, 6),
+        odd_once(PICKS, fives, 6),
+        cube,
+        (PICKS, wider, cube[2]),
+        odd_once(("x", "y", "z"), all_but_one(("x", "y", "z"), "abc"), 2),
+        odd_once(PICKS, fours, 4),
+        odd_once(PICKS, fives, 5),
+    ]
+
+
+def tight_saying(rng, most_copies, most_clauses):
+    """A saying most of whose clauses have two or three letters of owns, so that it may have answers or not."""
+    picks = PICKS[:rng.randint(1, 6)]
+    owns = []
+    left = most_copies
+    for name in "abcdefgh":
+        sight = tuple(sorted(rng.sample(picks, min(len(picks), rng.choice((0, 1, 1, 2, 2, 3))))))
+        if 2 ** len(sight) <= left:
+            owns.append((name, sight))
+            left -= 2 ** len(sight)
+    clauses = set()
+    for _ in range(rng.randint(most_clauses // 3, most_clauses)):
+        of_owns = min(len(owns), rng.choice((1, 2, 2, 3, 3, 3)))
+        of_picks = min(len(picks), rng.choice((0, 1, 1, 2, 3)))
+        clauses.update(clauses_over(rng, picks, tuple(owns), 1, of_picks, of_owns))
+    return picks, tuple(owns), tuple(sorted(clauses))
+
+
+def tight_sayings(seed, many, most_copies, most_clauses):
+    """So many of them, the same ones for the same seed."""
+    rng = random.Random(seed)
+    return [tight_saying(rng, most_copies, most_clauses) for _ in range(many)]
+
+
+def owns_of_120(rng):
+    """Owns with 120 copies, or nearly as many."""
+    lengths = rng.choice([(4, 4, 4, 4, 4, 4, 4, 3), (5, 5, 5, 4, 3), (5, 4, 4, 4, 4, 3, 3, 2), (6, 4, 3, 3, 3, 3, 2, 2)])
+    return tuple((name, tuple(sorted(rng.sample(PICKS, length)))) for name, length in zip("abcdefgh", lengths))
+
+
+def great_sayings(seed, many):
+    """Sayings with 40 clauses, most of them of two and three letters, and about 120 copies."""
+    rng = random.Random(seed)
+    found = []
+    for _ in range(many):
+        owns = owns_of_120(rng)
+        kinds = rng.choice([[(0, 3)], [(1, 3)], [(2, 3)], [(0, 3), (1, 2)], [(1, 2)], [(2, 2)], [(0, 4), (1, 3)]])
+        clauses = set()
+        while len(clauses) < 40:
+            clauses.update(clauses_over(rng, PICKS, owns, 1, *rng.choice(kinds)))
+        found.append((PICKS, owns, tuple(sorted(clauses))))
+    return found

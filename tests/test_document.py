@@ -20,6 +20,38 @@ ANSWERS = '''
 [2, ((False, True), (False, False)), True, (1, (True, False)), [('a', (False,), False), ('a', (True,), True), ('b', (False,), False)]]
 '''
 
+REFUTATIONS = '''
+>>> from onlyseen.refutations import refutes, tells, used
+>>> saying = (("x", "y"), (("a", ("y",)),), ((("a", False), ("x", True)), (("a", True), ("x", False))))
+>>> steps = (("play", 0, (False, True)), ("play", 1, (True, True)), ("join", 1, 0, ("a", (True,))))
+>>> [tells(saying, steps), refutes(saying, steps), refutes(saying, steps[:2]), used(saying, steps)]
+[[(('a', (True,), False),), (('a', (True,), True),), ()], True, False, (0, 1)]
+'''
+
+SETTLING = '''
+>>> from onlyseen.settling import first_answers, follows, has_answers, settle
+>>> saying = (("x", "y"), (("a", ("y",)),), ((("a", False), ("x", True)), (("a", True), ("x", False))))
+>>> other = (("x", "y"), (("a", ("x",)),), saying[2])
+>>> [settle(saying)[0], settle(other), has_answers(saying), first_answers(other), follows(other, (("a", True), ("x", False)))]
+['refutation', ('answers', ((False, True),)), False, ((False, True),), True]
+'''
+
+CORES = '''
+>>> from onlyseen.cores import core, is_core, largest_kept, least_core, needed_clauses
+>>> saying = (("x",), (("a", ()),), ((("a", False), ("x", True)), (("a", True), ("x", False)), (("a", True), ("x", True))))
+>>> [is_core(saying, (0, 1)), least_core(saying), needed_clauses(saying), largest_kept(saying)]
+[True, (0, 1), (0,), [(0,), (1, 2)]]
+'''
+
+SIGHTS = '''
+>>> from onlyseen.sights import hangs, idle, idle_holds, least_sights, reached, thinned
+>>> saying = (("x", "y"), (("a", ("x", "y")), ("b", ("y",))), ((("a", False), ("x", True)), (("a", True), ("x", False)), (("b", True), ("y", False))))
+>>> [reached(saying, "x", True), hangs(saying, "a", "x"), idle(saying), least_sights(saying), thinned(saying)[1]]
+[(('a', False),), True, [('a', 'y'), ('b', 'y')], (('x',), ()), (('a', ('x',)), ('b', ()))]
+>>> [idle_holds(saying, "b", "y", ((), (("b", True),))), idle_holds(saying, "b", "y", ((), ()))]
+[True, False]
+'''
+
 
 class Examples(Guarded):
 
@@ -34,3 +66,15 @@ class Examples(Guarded):
 
     def test_point_11(self):
         self.check(ANSWERS, "point 11", 3)
+
+    def test_point_12(self):
+        self.check(REFUTATIONS, "point 12", 4)
+
+    def test_point_13(self):
+        self.check(SETTLING, "point 13", 4)
+
+    def test_point_14(self):
+        self.check(CORES, "point 14", 3)
+
+    def test_point_31(self):
+        self.check(SIGHTS, "point 31", 4)

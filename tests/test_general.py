@@ -4,11 +4,19 @@ import copy
 import random
 
 from onlyseen.answers import answers_with, broken_at, fixed, holds, many, nth, place, value_of
+from onlyseen.cores import core, is_core, largest_kept, least_core, needed_clauses
+from onlyseen.refutations import refutes, tells, trimmed, used
 from onlyseen.sayings import copies, is_answers, is_clause, is_play, is_saying, letters_at, plays, seen
+from onlyseen.settling import against, first_answers, follows, has_answers, settle
+from onlyseen.sights import (
+    could_see, hangs, idle, idle_holds, idle_paper, least_sights, reached, thinned, with_sight, without_sight,
+)
 from tests import oracle
 from tests.guard import Guarded, inner_parts, picture
-from tests.samples import EMPTY, NO_CLAUSES, NO_PICKS, SMALL, THREE, largest_sayings, some_answers, strangers
-
+from tests.samples import (
+    BARRED, EMPTY, NO_CLAUSES, NO_OWNS, NO_PICKS, SMALL, THREE, WITH_EMPTY_CLAUSE, WITHOUT_ANSWERS, great_sayings,
+    largest_sayings, parity_sayings, some_answers, strangers, tight_sayings,
+)
 
 F, T = False, True
 
@@ -38,10 +46,45 @@ def calls():
     return found
 
 
+def sight_calls(saying):
+    """Functions of sights with arguments that are right."""
+    found = [(idle, saying), (thinned, saying), (could_see, saying)]
+    for pick in saying[0]:
+        found += [(reached, saying, pick, T), (reached, saying, pick, F)]
+        for name, sight in saying[1]:
+            found += [(hangs, saying, name, pick), (idle_paper, saying, name, pick), (without_sight, saying, name, pick),
+                      (idle_holds, saying, name, pick, idle_paper(saying, name, pick))]
+            if pick in sight:
+                found.append((with_sight, saying, name, pick))
+    return found
+
+
+def search_calls():
+    """Functions that search, with arguments that are right."""
+    found = []
+    few = [SMALL, THREE, EMPTY, NO_PICKS, NO_CLAUSES, NO_OWNS, BARRED, WITHOUT_ANSWERS, WITH_EMPTY_CLAUSE]
+    for saying in few + tight_sayings(180, 12, 12, 10) + great_sayings(181, 2) + parity_sayings()[:3]:
+        kind, told = settle(saying)
+        every = tuple(range(len(saying[2])))
+        found += [(settle, saying), (has_answers, saying), (first_answers, saying), (is_core, saying, every)]
+        if kind == "answers":
+            found += [(function, saying, clause) for function in (follows, against) for clause in saying[2][:3] + ((),)]
+        else:
+            steps = told + (("play",) + told[0][1:],)
+            found += [(tells, saying, steps), (refutes, saying, steps), (refutes, saying, told)]
+            found += [(trimmed, saying, told), (used, saying, told), (core, saying)]
+        if len(saying[2]) <= 12:
+            found += [(needed_clauses, saying), (largest_kept, saying)] + [(least_core, saying)] * (kind != "answers")
+        found += sight_calls(saying)
+        if kind == "answers" and sum(len(sight) for _, sight in saying[1]) <= 8:
+            found.append((least_sights, saying))
+    return found
+
+
 class General(Guarded):
 
     def test_equal_arguments_give_equal_values_and_nothing_is_modified(self):
-        for function, *passed in calls():
+        for function, *passed in calls() + search_calls():
             before = picture(passed)
             first = function(*passed)
             self.assertEqual(picture(passed), before, function.__name__)
@@ -51,12 +94,12 @@ class General(Guarded):
             self.assert_same(first, kept)
 
     def test_equal_again_behind_other_calls(self):
-        values = [(call, call[0](*call[1:])) for call in calls()]
+        values = [(call, call[0](*call[1:])) for call in calls() + search_calls()]
         for call, value in reversed(values):
             self.assert_same(call[0](*call[1:]), value)
 
     def test_returned_lists_are_new(self):
-        for function, *passed in calls():
+        for function, *passed in calls() + search_calls():
             first, second = function(*passed), function(*passed)
             if type(first) is list:
                 self.assertIsNot(first, second)
@@ -69,9 +112,10 @@ class General(Guarded):
         for value in strangers() + [SMALL, list(SMALL)]:
             for told in (is_saying(value), is_clause(SMALL, value), is_play(SMALL, value), is_answers(SMALL, value)):
                 self.assertIs(type(told), bool)
-        for function, *passed in calls():
-            if function in (holds, is_saying, is_clause, is_play, is_answers, value_of):
-                self.assertIs(type(function(*passed)), bool)
+        whether = (holds, is_saying, is_clause, is_play, is_answers, value_of, refutes, has_answers, follows, is_core,
+                   hangs, idle_holds)
+        for function, *passed in calls() + search_calls():
+            self.assertEqual(type(function(*passed)) is bool, function in whether, function.__name__)
 
     def test_numbers_are_integers_and_truths_are_truths(self):
         for saying in (SMALL, THREE, EMPTY, NO_PICKS, NO_CLAUSES):
@@ -87,10 +131,20 @@ class General(Guarded):
         index, play = broken_at(SMALL, ((F, F), (F, F)))
         self.assertEqual((type(index), [type(one) for one in play]), (int, [bool, bool]))
 
+    def test_what_is_told_is_of_tuples_lists_texts_truths_and_integers(self):
+        for function, *passed in search_calls():
+            self.check_kinds(function(*passed))
+
+    def check_kinds(self, value):
+        self.assertIn(type(value), (tuple, list, str, bool, int, type(None)))
+        if type(value) in (tuple, list):
+            for part in value:
+                self.check_kinds(part)
+
     def test_a_refused_call_changes_nothing(self):
         before = [call[0](*call[1:]) for call in calls()]
         for value in strangers():
-            for function in (plays, copies, many, fixed):
+            for function in (plays, copies, many, fixed, settle, has_answers, core, largest_kept, idle, least_sights):
                 try:
                     function(value)
                 except ValueError:

@@ -4,7 +4,7 @@ import inspect
 import os
 
 import onlyseen
-from onlyseen import answers, errors, sayings
+from onlyseen import answers, cores, errors, refutations, sayings, settling, sights
 from tests.guard import Guarded
 
 PARAMETERS = {
@@ -27,6 +27,38 @@ PARAMETERS = {
         "nth": ["saying", "number"],
         "place": ["saying", "answers"],
         "fixed": ["saying"],
+    },
+    refutations: {
+        "tells": ["saying", "steps"],
+        "refutes": ["saying", "value"],
+        "trimmed": ["saying", "refutation"],
+        "used": ["saying", "refutation"],
+    },
+    settling: {
+        "settle": ["saying"],
+        "has_answers": ["saying"],
+        "first_answers": ["saying"],
+        "follows": ["saying", "clause"],
+        "against": ["saying", "clause"],
+    },
+    cores: {
+        "is_core": ["saying", "indexes"],
+        "core": ["saying"],
+        "least_core": ["saying"],
+        "needed_clauses": ["saying"],
+        "largest_kept": ["saying"],
+    },
+    sights: {
+        "reached": ["saying", "pick", "truth"],
+        "hangs": ["saying", "name", "pick"],
+        "idle": ["saying"],
+        "idle_holds": ["saying", "name", "pick", "value"],
+        "idle_paper": ["saying", "name", "pick"],
+        "without_sight": ["saying", "name", "pick"],
+        "with_sight": ["saying", "name", "pick"],
+        "thinned": ["saying"],
+        "could_see": ["saying"],
+        "least_sights": ["saying"],
     },
 }
 
@@ -53,5 +85,5 @@ class Interface(Guarded):
     def test_the_package_is_a_folder_at_the_top_with_the_tests_beside_it(self):
         top = os.path.dirname(os.path.dirname(os.path.abspath(__file__)))
         self.assertEqual(os.path.abspath(onlyseen.__file__), os.path.join(top, "onlyseen", "__init__.py"))
-        for module in (errors, sayings, answers):
+        for module in [errors] + list(PARAMETERS):
             self.assertEqual(os.path.dirname(os.path.abspath(module.__file__)), os.path.join(top, "onlyseen"))
