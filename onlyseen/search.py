@@ -53,13 +53,12 @@ class Search:
         self.failed = []
 
     def demand(self, letters):
-        """Takes a demand up, which has no letter twice, nor with its contrary; returns its number."""
+        """Takes a demand up, which has no letter twice, nor with its contrary."""
         for letter in letters:
             self.weight[letter >> 1] -= FIRST_STEP >> min(len(letters), 8)
         number = self.enter(list(letters), sum([1 << letter for letter in letters]), None)
         if len(letters) == 1:
             self.ones.append(number)
-        return number
 
     def enter(self, letters, full, chain):
         """Gives a demand the next number, and sees to its being followed up; returns the number."""

@@ -83,7 +83,8 @@ def hangs(saying, name, pick):
     want_saying(saying)
     want_own(saying, name)
     want_pick(saying, pick)
-    return name in viewers_of(saying, pick) and hangs_by(paper_of(saying, pick), name)
+    # Letters of viewers alone are reached.
+    return hangs_by(paper_of(saying, pick), name)
 
 
 def idle(saying):
@@ -174,15 +175,21 @@ def could_see(saying):
             if pick not in sight and would_be_idle(saying, name, pick)]
 
 
+def parts_of(sight):
+    """All tuples of some of the picks of a sight, in their sequence."""
+    found = [()]
+    for pick in sight:
+        found = found + [part + (pick,) for part in found]
+    return found
+
+
 def all_sights(saying):
     """All tuples of sights that are parts of those of a saying, the ones with the fewest picks ahead."""
-    found = [()]
+    found = [(0, ())]
     for _, sight in saying[1]:
-        parts = [()]
-        for pick in sight:
-            parts = parts + [part + (pick,) for part in parts]
-        found = [sights + (part,) for sights in found for part in parts]
-    return [sights for _, sights in sorted([(sum([len(sight) for sight in sights]), sights) for sights in found])]
+        parts = parts_of(sight)
+        found = [(many + len(part), sights + (part,)) for many, sights in found for part in parts]
+    return [sights for _, sights in sorted(found)]
 
 
 def tied_copies(saying):
@@ -221,15 +228,14 @@ def least_sights(saying):
     want_saying(saying)
     ties = tied_copies(saying)
     search = search_with_ties(saying, ties)
-    if not search.solve([]):
-        raise NoAnswers(renewed(saying))
     letters = {tie: 2 * (len(all_copies(saying)) + index) + 1 for index, tie in enumerate(ties)}
     barred = []
     for sights in all_sights(saying):
-        seen = [(own[0], pick) for own, sight in zip(saying[1], sights) for pick in sight]
-        dropped = [letters[tie] for tie in ties if tie not in seen]
+        kept = [(own[0], pick) for own, sight in zip(saying[1], sights) for pick in sight]
+        dropped = [letters[tie] for tie in ties if tie not in kept]
         if not any([all([letter in dropped for letter in failed]) for failed in barred]):
             if search.solve(dropped):
                 return sights
+            # Nothing that drops all of these has answers; nothing at all has, if there are none of them.
             barred.append(search.failed)
     raise NoAnswers(renewed(saying))
