@@ -2,7 +2,7 @@
 
 from onlyseen.checks import renewed, want_saying
 from onlyseen.errors import InvalidRefutation, InvalidStep
-from onlyseen.steps import is_refutation, marked_of, ranks_of, steps_behind, told_by_steps
+from onlyseen.steps import is_refutation, marked_of, ranks_of, steps_behind, steps_needed, told_by_steps
 
 
 def want_refutation(saying, refutation):
@@ -33,14 +33,7 @@ def trimmed(saying, refutation):
     """A refutation without the steps from which the last one does not come, numbered anew."""
     want_saying(saying)
     want_refutation(saying, refutation)
-    places = {index: place for place, index in enumerate(steps_behind(refutation))}
-    steps = []
-    for index in places:
-        step = refutation[index]
-        if step[0] == "join":
-            step = ("join", places[step[1]], places[step[2]], step[3])
-        steps.append(step)
-    return tuple(steps)
+    return steps_needed(refutation)
 
 
 def used(saying, refutation):

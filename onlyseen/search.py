@@ -22,6 +22,11 @@ def length_of_turn(turn):
     return TURN * (turn + 1) // 2
 
 
+def joined_bits(bits, letter, others):
+    """The letters of a join, as bits: all of both, but the letter that goes out and its contrary."""
+    return (bits | others) & ~(3 << (letter & -2))
+
+
 class Search:
     """Demands over so many places, and what is known of them."""
 
@@ -304,7 +309,7 @@ class Search:
         """All letters that a chain leaves, as bits."""
         bits = self.full[number]
         for letter, other in joins:
-            bits = (bits | self.full[other]) & ~(3 << (letter & -2))
+            bits = joined_bits(bits, letter, self.full[other])
         return bits
 
     def conclude(self, number):
@@ -314,7 +319,7 @@ class Search:
         for letter in reversed(self.trail):
             if bits >> (letter ^ 1) & 1:
                 joins.append((letter ^ 1, self.reason[letter >> 1]))
-                bits = (bits | self.full[self.reason[letter >> 1]]) & ~(3 << (letter & -2))
+                bits = joined_bits(bits, letter, self.full[self.reason[letter >> 1]])
         self.enter([], bits, (number, joins))
 
     def rescale(self):

@@ -4,7 +4,8 @@ from onlyseen.checks import renewed, want_clause, want_saying
 from onlyseen.errors import NoAnswers
 from onlyseen.grounds import copies_at, letters_of, places_of, sources_of
 from onlyseen.marks import all_copies, all_plays, tables_of, truths_at
-from onlyseen.search import Search
+from onlyseen.search import Search, joined_bits
+from onlyseen.steps import steps_needed
 
 
 def search_for(saying, sources):
@@ -31,21 +32,23 @@ def refutation_by(saying, search, sources):
     plays = list(sources.values())
     every = all_copies(saying)
     steps = []
+    # What was told once is not joined again: the indexes of steps by the letters that they tell, as bits.
     places = {}
     for number in needed_numbers(search):
         if search.chains[number] is None:
-            at = len(steps)
+            places[search.full[number]] = len(steps)
             steps.append(plays[number])
         else:
             start, joins = search.chains[number]
-            at = places[start]
+            bits = search.full[start]
             for letter, other in joins:
                 # The letter that goes out stands in what is joined so far, its contrary in the other one.
-                pair = (at, places[other]) if letter & 1 else (places[other], at)
-                at = len(steps)
-                steps.append(("join", pair[0], pair[1], every[letter >> 1]))
-        places[number] = at
-    return tuple(steps)
+                pair = [places[bits], places[search.full[other]]]
+                bits = joined_bits(bits, letter, search.full[other])
+                if bits not in places:
+                    places[bits] = len(steps)
+                    steps.append(("join", pair[1 - (letter & 1)], pair[letter & 1], every[letter >> 1]))
+    return steps_needed(steps[:places[0] + 1])
 
 
 def settle(saying):

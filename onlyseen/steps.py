@@ -101,3 +101,15 @@ def steps_behind(refutation):
             coming[refutation[index][1]] = True
             coming[refutation[index][2]] = True
     return sorted(coming)
+
+
+def steps_needed(refutation):
+    """A refutation without the steps from which the last one does not come, numbered anew."""
+    places = {index: place for place, index in enumerate(steps_behind(refutation))}
+    steps = []
+    for index in places:
+        step = refutation[index]
+        if step[0] == "join":
+            step = ("join", places[step[1]], places[step[2]], step[3])
+        steps.append(step)
+    return tuple(steps)

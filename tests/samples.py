@@ -274,6 +274,21 @@ def tight_sayings(seed, many, most_copies, most_clauses):
     return [tight_saying(rng, most_copies, most_clauses) for _ in range(many)]
 
 
+def crowded_sayings(seed, many):
+    """Sayings with nine short clauses over few names, most of which have several cores."""
+    rng = random.Random(seed)
+    found = []
+    for _ in range(many):
+        picks = PICKS[:3]
+        owns = tuple((name, tuple(sorted(rng.sample(picks, rng.choice((0, 0, 1, 1, 2)))))) for name in "abcd")
+        clauses = set()
+        while len(clauses) < 9:
+            kind = rng.choice([(0, 1), (0, 2), (0, 2), (0, 3), (1, 1), (1, 2)])
+            clauses.update(clauses_over(rng, picks, owns, 1, *kind))
+        found.append((picks, owns, tuple(sorted(clauses))))
+    return found
+
+
 def owns_of_120(rng):
     """Owns with 120 copies, or nearly as many."""
     lengths = rng.choice([(4, 4, 4, 4, 4, 4, 4, 3), (5, 5, 5, 4, 3), (5, 4, 4, 4, 4, 3, 3, 2), (6, 4, 3, 3, 3, 3, 2, 2)])

@@ -9,8 +9,8 @@ from onlyseen.settling import settle
 from tests import oracle
 from tests.guard import Guarded, inner_parts
 from tests.samples import (
-    BARRED, EMPTY, NO_CLAUSES, NO_OWNS, SAYINGS, SMALL, WITH_EMPTY_CLAUSE, WITHOUT_ANSWERS, parity_sayings,
-    some_sayings, strangers, tight_sayings,
+    BARRED, EMPTY, NO_CLAUSES, NO_OWNS, SAYINGS, SMALL, WITH_EMPTY_CLAUSE, WITHOUT_ANSWERS, crowded_sayings,
+    parity_sayings, some_sayings, strangers, tight_sayings,
 )
 
 F, T = False, True
@@ -37,7 +37,7 @@ def lots(saying):
 
 
 def small_sayings():
-    few = [saying for saying in tight_sayings(140, 260, 12, 9) if len(saying[2]) <= 9]
+    few = tight_sayings(140, 160, 12, 9) + crowded_sayings(142, 80)
     return SAYINGS + some_sayings(141, 60, 9, 7) + few + parity_sayings()[:1] + [THREE_CLAUSES, PAIRS]
 
 

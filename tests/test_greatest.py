@@ -13,7 +13,7 @@ from tests.samples import (
 )
 
 F, T = False, True
-MOST_STEPS = 40000
+MOST_STEPS = 20000
 
 
 def flat(answers):
@@ -53,6 +53,9 @@ class Greatest(Settled):
             self.assertEqual(kind, "refutation")
             self.assertLess(len(told), MOST_STEPS)
             self.assertIs(checker.refutes(saying, told), T)
+            # No longer than it has to be: no step of no use, and none that tells what an earlier one tells.
+            self.assertEqual(len(checker.behind(told)), len(told))
+            self.assertEqual(len(set(checker.told(saying, told)[0])), len(told))
             self.assertIsNone(found)
         if telling:
             self.assert_same(found, oracle.first_row(saying))
