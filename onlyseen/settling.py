@@ -48,7 +48,7 @@ def refutation_by(saying, search, sources):
                 if bits not in places:
                     places[bits] = len(steps)
                     steps.append(("join", pair[1 - (letter & 1)], pair[letter & 1], every[letter >> 1]))
-    return steps_needed(steps[:places[0] + 1])
+    return steps_needed(steps)
 
 
 def settle(saying):
