@@ -4,7 +4,9 @@ What is passed beside the argument in question is taken for what it should be.
 """
 
 from onlyseen.errors import InvalidAnswers, InvalidClause, InvalidName, InvalidNumber, InvalidPlay, InvalidSaying
-from onlyseen.shapes import fits_answers, fits_clause, fits_play, fits_rows, fits_saying, is_integer, is_name
+from onlyseen.shapes import (
+    are_indexes, fits_answers, fits_clause, fits_play, fits_rows, fits_saying, is_integer, is_name,
+)
 
 
 def renewed(value):
@@ -66,3 +68,9 @@ def want_number(number):
     """Raises InvalidNumber for any object that is no integer from 0 on."""
     if not is_integer(number) or number < 0:
         raise InvalidNumber(renewed(number))
+
+
+def want_indexes(saying, indexes):
+    """Raises InvalidNumber for any object that is no ascending tuple of indexes of clauses of the saying."""
+    if not are_indexes(indexes, len(saying[2])):
+        raise InvalidNumber(renewed(indexes))

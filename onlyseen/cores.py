@@ -2,12 +2,11 @@
 
 from itertools import combinations
 
-from onlyseen.checks import renewed, want_saying
-from onlyseen.errors import Holds, InvalidNumber
+from onlyseen.checks import renewed, want_indexes, want_saying
+from onlyseen.errors import Holds
 from onlyseen.grounds import grounds_of
 from onlyseen.marks import all_copies
 from onlyseen.search import Search
-from onlyseen.shapes import is_integer, is_rising
 
 
 class Lots:
@@ -51,14 +50,6 @@ def lies_in(bits, others):
 def lies_around(bits, others):
     """Whether one of these lies in a lot."""
     return any([other & ~bits == 0 for other in others])
-
-
-def want_indexes(saying, indexes):
-    """Raises InvalidNumber for any object that is no ascending tuple of indexes of clauses of the saying."""
-    if isinstance(indexes, tuple) and all([is_integer(index) for index in indexes]) and is_rising(indexes):
-        if not indexes or (indexes[0] >= 0 and indexes[-1] < len(saying[2])):
-            return
-    raise InvalidNumber(renewed(indexes))
 
 
 def core_in(lots, indexes):

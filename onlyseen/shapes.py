@@ -11,6 +11,7 @@ MOST_PICKS = 6
 MOST_OWNS = 8
 MOST_CLAUSES = 40
 MOST_COPIES = 120
+MOST_SUMS = 40
 
 
 def is_truth(value):
@@ -36,6 +37,13 @@ def is_pair(value):
 def is_rising(parts):
     """Whether each part is below the next one, so that no two are alike."""
     return all([parts[k] < parts[k + 1] for k in range(len(parts) - 1)])
+
+
+def are_indexes(value, many):
+    """Whether an object is an ascending tuple of indexes, from 0 on, below so many."""
+    if not isinstance(value, tuple) or not all([is_integer(index) for index in value]) or not is_rising(value):
+        return False
+    return not value or (value[0] >= 0 and value[-1] < many)
 
 
 def is_name(value):
@@ -111,6 +119,24 @@ def fits_saying(value):
     if not are_names(picks, MOST_PICKS) or not are_owns(owns, picks):
         return False
     return are_clauses(clauses, names_of(picks, owns))
+
+
+def is_sum(value, names):
+    """Whether an object is a tuple (an ascending tuple of some of these names, truth)."""
+    if not is_pair(value) or not are_names(value[0], len(names)) or not is_truth(value[1]):
+        return False
+    return all([name in names for name in value[0]])
+
+
+def fits_sums(value):
+    """Whether an object is a row of sums."""
+    if not isinstance(value, tuple) or len(value) != 3:
+        return False
+    picks, owns, sums = value
+    if not are_names(picks, MOST_PICKS) or not are_owns(owns, picks) or not is_tuple(sums, MOST_SUMS):
+        return False
+    names = names_of(picks, owns)
+    return all([is_sum(part, names) for part in sums]) and is_rising(sums)
 
 
 def fits_clause(saying, value):

@@ -52,6 +52,46 @@ SIGHTS = '''
 [True, False]
 '''
 
+EASY = '''
+>>> from onlyseen.easy import chains_hold, is_plain, is_twos, least_true, sums_answers, sums_paper, sums_paper_holds
+>>> saying = (("x",), (("a", ()), ("b", ("x",))), ((("a", False), ("b", True)), (("a", True), ("x", False))))
+>>> [is_plain(saying), is_twos(saying), least_true(saying)]
+[True, True, ((True,), (True, True))]
+>>> other = (("x",), (("a", ()),), ((("a", False), ("x", True)), (("a", True), ("x", False))))
+>>> [chains_hold(other, ((("a", (), True), ("a", (), False)), (("a", (), False), ("a", (), True)))), sums_answers((("x", "y"), (("a", ("x",)), ("b", ("y",))), ((("a", "b", "x", "y"), True),))) is None]
+[True, False]
+>>> row = (("x", "y"), (("a", ("x",)),), ((("a", "y"), False),))
+>>> [sums_answers(row), sums_paper(row), sums_paper_holds(row, ("x", (0,)))]
+[None, ('y', (0,)), False]
+'''
+
+NETS = '''
+>>> from onlyseen.nets import fill, fills_many, outs_at
+>>> net = (("x", "y"), (("a", "blank", ("x",)), ("b", "blank", ("y",)), ("c", "unlike", ("a", "b"))), ("c",))
+>>> unlike = (("x", "y"), (("c", "unlike", ("x", "y")),), ("c",))
+>>> both = (("x", "y"), (("c", "both", ("x", "y")),), ("c",))
+>>> [outs_at(net, ((False, True), (True, True)), (True, False)), fills_many(net, unlike), fill(net, both)[0]]
+[(False,), 2, 'barred']
+'''
+
+MIDDLES = '''
+>>> from onlyseen.middles import is_middle, is_so, middle
+>>> saying = (("x",), (("a", ()),), ((("a", False), ("x", True)), (("a", True), ("x", False))))
+>>> [is_middle(saying, (0,), ("letter", "a", (), False)), is_middle(saying, (0,), ("true",)), is_middle(saying, (0,), middle(saying, (0,))), is_so(saying, ("letter", "a", (), False), ((True,),))]
+[True, False, True, False]
+'''
+
+SHORTER = '''
+>>> from onlyseen.refutations import refutes
+>>> from onlyseen.shorter import cuts, refutation_back, shorter
+>>> saying = (("x", "y"), (("a", ("y",)), ("b", ())), ((("a", False), ("x", True)), (("a", True), ("x", False)), (("b", True), ("y", True))))
+>>> [cuts(saying), shorter(saying)[0]]
+[[('pure', 'b', True), ('reduce', (('a', False), ('x', True)), 'x'), ('reduce', (('a', True), ('x', False)), 'x'), ('reduce', (('b', True), ('y', True)), 'y')], (('x', 'y'), (('a', ('y',)),), ((('a', False),), (('a', True),)))]
+>>> short, done = shorter(saying)
+>>> refutes(saying, refutation_back(saying, done, (("play", 0, (False, True)), ("play", 1, (False, True)), ("join", 1, 0, ("a", (True,))))))
+True
+'''
+
 
 class Examples(Guarded):
 
@@ -78,3 +118,15 @@ class Examples(Guarded):
 
     def test_point_31(self):
         self.check(SIGHTS, "point 31", 4)
+
+    def test_point_32(self):
+        self.check(EASY, "point 32", 7)
+
+    def test_point_33(self):
+        self.check(NETS, "point 33", 5)
+
+    def test_point_34(self):
+        self.check(MIDDLES, "point 34", 3)
+
+    def test_point_35(self):
+        self.check(SHORTER, "point 35", 6)

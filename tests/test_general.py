@@ -5,14 +5,22 @@ import random
 
 from onlyseen.answers import answers_with, broken_at, fixed, holds, many, nth, place, value_of
 from onlyseen.cores import core, is_core, largest_kept, least_core, needed_clauses
+from onlyseen.easy import (
+    by_chains, chains, chains_hold, is_plain, is_sums, is_twos, least_true, sums_answers, sums_hold, sums_paper,
+    sums_paper_holds,
+)
+from onlyseen.middles import is_middle, is_so, middle
+from onlyseen.nets import fill, fills_many, is_net, net_saying, outs_at
 from onlyseen.refutations import refutes, tells, trimmed, used
 from onlyseen.sayings import copies, is_answers, is_clause, is_play, is_saying, letters_at, plays, seen
 from onlyseen.settling import against, first_answers, follows, has_answers, settle
+from onlyseen.shorter import after_cut, answers_back, cuts, refutation_back, shorter
 from onlyseen.sights import (
     could_see, hangs, idle, idle_holds, idle_paper, least_sights, reached, thinned, with_sight, without_sight,
 )
-from tests import oracle
+from tests import oracle, second
 from tests.guard import Guarded, inner_parts, picture
+from tests.kinds import goal_for, plain_saying, planted_sums, some_marked, some_net, some_sums, twos_saying
 from tests.samples import (
     BARRED, EMPTY, NO_CLAUSES, NO_OWNS, NO_PICKS, SMALL, THREE, WITH_EMPTY_CLAUSE, WITHOUT_ANSWERS, great_sayings,
     largest_sayings, parity_sayings, some_answers, strangers, tight_sayings,
@@ -81,10 +89,54 @@ def search_calls():
     return found
 
 
+def shorter_calls(saying):
+    """Functions of cuts with arguments that are right."""
+    left, done = second.shorter(saying)
+    kind, told = settle(left)
+    found = [(cuts, saying), (shorter, saying)] + [(after_cut, saying, cut) for cut in second.cuts(saying)[:3]]
+    if kind == "answers":
+        return found + [(answers_back, saying, done, told)]
+    return found + [(refutation_back, saying, done, told)]
+
+
+def kind_calls():
+    """Functions of points 32 to 35, with arguments that are right."""
+    rng = random.Random(182)
+    found = []
+    plain = [plain_saying(rng, 12, 12) for _ in range(6)]
+    twos = [twos_saying(rng, 12, 14) for _ in range(6)]
+    for saying in plain + twos + [SMALL, EMPTY, BARRED, NO_CLAUSES] + tight_sayings(183, 8, 12, 12):
+        found += [(is_plain, saying), (is_twos, saying), (chains_hold, saying, ((), ()))] + shorter_calls(saying)
+        copies = oracle.copies(saying)
+        first = tuple(range(0, len(saying[2]), 2))
+        marked = some_marked(rng, copies, 4)
+        found += [(is_middle, saying, first, marked), (is_so, saying, marked, some_answers(rng, saying))]
+        if not has_answers(saying):
+            found.append((middle, saying, first))
+    found += [(least_true, saying) for saying in plain]
+    for saying in twos:
+        found += [(by_chains, saying), (chains, saying), (chains_hold, saying, chains(saying))]
+    for row in some_sums(184, 8) + planted_sums(185, 2, 12):
+        by = some_answers(rng, row)
+        found += [(is_sums, row), (sums_answers, row), (sums_hold, row, by), (sums_paper, row)]
+        found += [(sums_paper_holds, row, sums_paper(row)), (sums_paper_holds, row, ("x", (0,)))]
+    for number in range(8):
+        net = some_net(rng, 2, 6, 2, 2)
+        tables = rng.choice(second.every_tables(net))
+        goal = goal_for(rng, net) if number % 2 else some_net(rng, 2, 3, 0, 2)
+        found += [(is_net, net), (outs_at, net, tables, (T, F)), (net_saying, net, goal), (fill, net, goal),
+                  (fills_many, net, goal)]
+    return found
+
+
+def all_calls():
+    return calls() + search_calls() + kind_calls()
+
+
 class General(Guarded):
 
     def test_equal_arguments_give_equal_values_and_nothing_is_modified(self):
-        for function, *passed in calls() + search_calls():
+        for function, *passed in all_calls():
             before = picture(passed)
             first = function(*passed)
             self.assertEqual(picture(passed), before, function.__name__)
@@ -94,12 +146,12 @@ class General(Guarded):
             self.assert_same(first, kept)
 
     def test_equal_again_behind_other_calls(self):
-        values = [(call, call[0](*call[1:])) for call in calls() + search_calls()]
+        values = [(call, call[0](*call[1:])) for call in all_calls()]
         for call, value in reversed(values):
             self.assert_same(call[0](*call[1:]), value)
 
     def test_returned_lists_are_new(self):
-        for function, *passed in calls() + search_calls():
+        for function, *passed in all_calls():
             first, second = function(*passed), function(*passed)
             if type(first) is list:
                 self.assertIsNot(first, second)
@@ -113,8 +165,9 @@ class General(Guarded):
             for told in (is_saying(value), is_clause(SMALL, value), is_play(SMALL, value), is_answers(SMALL, value)):
                 self.assertIs(type(told), bool)
         whether = (holds, is_saying, is_clause, is_play, is_answers, value_of, refutes, has_answers, follows, is_core,
-                   hangs, idle_holds)
-        for function, *passed in calls() + search_calls():
+                   hangs, idle_holds, is_plain, is_twos, chains_hold, is_sums, sums_hold, sums_paper_holds, is_net,
+                   is_middle, is_so)
+        for function, *passed in all_calls():
             self.assertEqual(type(function(*passed)) is bool, function in whether, function.__name__)
 
     def test_numbers_are_integers_and_truths_are_truths(self):
@@ -132,7 +185,7 @@ class General(Guarded):
         self.assertEqual((type(index), [type(one) for one in play]), (int, [bool, bool]))
 
     def test_what_is_told_is_of_tuples_lists_texts_truths_and_integers(self):
-        for function, *passed in search_calls():
+        for function, *passed in search_calls() + kind_calls():
             self.check_kinds(function(*passed))
 
     def check_kinds(self, value):
@@ -141,10 +194,18 @@ class General(Guarded):
             for part in value:
                 self.check_kinds(part)
 
+    def test_no_list_stands_in_two_places(self):
+        for saying in [SMALL, THREE, EMPTY, WITHOUT_ANSWERS] + tight_sayings(186, 10, 12, 12):
+            one, other = shorter(saying), shorter(saying)
+            self.assertIsNot(one[1], other[1])
+            one[1].append("more")
+            self.assert_same(shorter(saying), other)
+
     def test_a_refused_call_changes_nothing(self):
         before = [call[0](*call[1:]) for call in calls()]
         for value in strangers():
-            for function in (plays, copies, many, fixed, settle, has_answers, core, largest_kept, idle, least_sights):
+            for function in (plays, copies, many, fixed, settle, has_answers, core, largest_kept, idle, least_sights,
+                             least_true, chains, sums_paper, cuts, shorter):
                 try:
                     function(value)
                 except ValueError:

@@ -4,7 +4,9 @@ import inspect
 import os
 
 import onlyseen
-from onlyseen import answers, cores, errors, refutations, sayings, settling, sights
+from onlyseen import (
+    answers, cores, easy, errors, middles, nets, refutations, sayings, settling, shorter, sights,
+)
 from tests.guard import Guarded
 
 PARAMETERS = {
@@ -59,6 +61,38 @@ PARAMETERS = {
         "thinned": ["saying"],
         "could_see": ["saying"],
         "least_sights": ["saying"],
+    },
+    easy: {
+        "is_plain": ["saying"],
+        "is_twos": ["saying"],
+        "least_true": ["saying"],
+        "by_chains": ["saying"],
+        "chains": ["saying"],
+        "chains_hold": ["saying", "value"],
+        "is_sums": ["value"],
+        "sums_answers": ["row"],
+        "sums_hold": ["row", "answers"],
+        "sums_paper": ["row"],
+        "sums_paper_holds": ["row", "value"],
+    },
+    nets: {
+        "is_net": ["value"],
+        "outs_at": ["net", "tables", "play"],
+        "net_saying": ["net", "goal"],
+        "fill": ["net", "goal"],
+        "fills_many": ["net", "goal"],
+    },
+    middles: {
+        "middle": ["saying", "first"],
+        "is_middle": ["saying", "first", "value"],
+        "is_so": ["saying", "marked", "answers"],
+    },
+    shorter: {
+        "cuts": ["saying"],
+        "after_cut": ["saying", "cut"],
+        "shorter": ["saying"],
+        "answers_back": ["saying", "cuts", "answers"],
+        "refutation_back": ["saying", "cuts", "refutation"],
     },
 }
 
