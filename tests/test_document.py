@@ -92,6 +92,20 @@ SHORTER = '''
 True
 '''
 
+TEXTS = '''
+>>> from onlyseen.texts import show_answers, show_saying
+>>> saying = (("x",), (("a", ()), ("b", ("x",))), ((("a", False), ("b", True)), (("a", True), ("x", False))))
+>>> [show_saying(saying), show_answers(saying, ((True,), (False, True)))]
+['pick x ; own a: - ; own b: x ; -a b ; a -x', 'a: 1 ; b: 01']
+'''
+
+DESK = '''
+>>> from onlyseen.desk import Desk
+>>> desk = Desk()
+>>> [desk.execute(line) for line in ["saying pick x ; own a: - ; -a x ; a -x", "many", "core", "show a x", "settle", "idle", "back", "text"]]
+['ok', '0', '-a x ; a -x', 'ok', 'answers a: 01', '-', 'show', 'pick x ; own a: - ; -a x ; a -x']
+'''
+
 
 class Examples(Guarded):
 
@@ -130,3 +144,9 @@ class Examples(Guarded):
 
     def test_point_35(self):
         self.check(SHORTER, "point 35", 6)
+
+    def test_point_37(self):
+        self.check(TEXTS, "point 37", 3)
+
+    def test_point_39(self):
+        self.check(DESK, "point 39", 3)

@@ -5,12 +5,15 @@ import random
 
 from onlyseen.answers import answers_with, broken_at, fixed, holds, many, nth, place, value_of
 from onlyseen.cores import core, is_core, largest_kept, least_core, needed_clauses
+from onlyseen.desk import Desk
 from onlyseen.easy import (
     by_chains, chains, chains_hold, is_plain, is_sums, is_twos, least_true, sums_answers, sums_hold, sums_paper,
     sums_paper_holds,
 )
+from onlyseen.live import Live
 from onlyseen.middles import is_middle, is_so, middle
 from onlyseen.nets import fill, fills_many, is_net, net_saying, outs_at
+from onlyseen.reading import read_clause, read_saying
 from onlyseen.refutations import refutes, tells, trimmed, used
 from onlyseen.sayings import copies, is_answers, is_clause, is_play, is_saying, letters_at, plays, seen
 from onlyseen.settling import against, first_answers, follows, has_answers, settle
@@ -18,6 +21,7 @@ from onlyseen.shorter import after_cut, answers_back, cuts, refutation_back, sho
 from onlyseen.sights import (
     could_see, hangs, idle, idle_holds, idle_paper, least_sights, reached, thinned, with_sight, without_sight,
 )
+from onlyseen.texts import show_answers, show_clause, show_saying, show_steps
 from tests import oracle, second
 from tests.guard import Guarded, inner_parts, picture
 from tests.kinds import goal_for, plain_saying, planted_sums, some_marked, some_net, some_sums, twos_saying
@@ -129,8 +133,37 @@ def kind_calls():
     return found
 
 
+def of_live(method, saying):
+    """What a method of a live saying with these clauses returns."""
+    live = Live(*saying[:2])
+    for clause in saying[2]:
+        live.put(clause)
+    return getattr(live, method)()
+
+
+def of_desk(line, saying):
+    """What a desk with a saying answers to a line."""
+    desk = Desk()
+    desk.execute("saying " + show_saying(saying))
+    return desk.execute(line)
+
+
+def text_calls():
+    """Functions of points 36 to 39, with arguments that are right."""
+    found = []
+    for saying in [SMALL, THREE, EMPTY, NO_CLAUSES, NO_OWNS, BARRED, WITHOUT_ANSWERS] + tight_sayings(187, 8, 12, 10):
+        kind, told = settle(saying)
+        found += [(show_answers, saying, told)] if kind == "answers" else [(show_steps, saying, told)]
+        found += [(show_saying, saying), (read_saying, show_saying(saying))]
+        found += [(show_clause, clause) for clause in saying[2]] + [(read_clause, show_clause(c)) for c in saying[2]]
+        barred = ["core"] * (kind != "answers")
+        found += [(of_live, method, saying) for method in ["settle", "many", "idle", "has_answers"] + barred]
+        found += [(of_desk, line, saying) for line in ["text", "settle", "many", "idle"] + barred]
+    return found
+
+
 def all_calls():
-    return calls() + search_calls() + kind_calls()
+    return calls() + search_calls() + kind_calls() + text_calls()
 
 
 class General(Guarded):
@@ -168,7 +201,8 @@ class General(Guarded):
                    hangs, idle_holds, is_plain, is_twos, chains_hold, is_sums, sums_hold, sums_paper_holds, is_net,
                    is_middle, is_so)
         for function, *passed in all_calls():
-            self.assertEqual(type(function(*passed)) is bool, function in whether, function.__name__)
+            told = function in whether or (function is of_live and passed[0] == "has_answers")
+            self.assertEqual(type(function(*passed)) is bool, told, function.__name__)
 
     def test_numbers_are_integers_and_truths_are_truths(self):
         for saying in (SMALL, THREE, EMPTY, NO_PICKS, NO_CLAUSES):
@@ -185,7 +219,7 @@ class General(Guarded):
         self.assertEqual((type(index), [type(one) for one in play]), (int, [bool, bool]))
 
     def test_what_is_told_is_of_tuples_lists_texts_truths_and_integers(self):
-        for function, *passed in search_calls() + kind_calls():
+        for function, *passed in search_calls() + kind_calls() + text_calls():
             self.check_kinds(function(*passed))
 
     def check_kinds(self, value):

@@ -5,7 +5,8 @@ import os
 
 import onlyseen
 from onlyseen import (
-    answers, cores, easy, errors, middles, nets, refutations, sayings, settling, shorter, sights,
+    answers, cores, desk, easy, errors, live, middles, nets, reading, refutations, sayings, settling, shorter, sights,
+    texts,
 )
 from tests.guard import Guarded
 
@@ -94,6 +95,39 @@ PARAMETERS = {
         "answers_back": ["saying", "cuts", "answers"],
         "refutation_back": ["saying", "cuts", "refutation"],
     },
+    texts: {
+        "show_clause": ["clause"],
+        "show_saying": ["saying"],
+        "show_answers": ["saying", "answers"],
+        "show_steps": ["saying", "refutation"],
+    },
+    reading: {
+        "read_saying": ["text"],
+        "read_clause": ["text"],
+    },
+}
+
+METHODS = {
+    live.Live: {
+        "__init__": ["self", "picks", "owns"],
+        "put": ["self", "clause"],
+        "take": ["self", "clause"],
+        "show": ["self", "name", "pick"],
+        "hide": ["self", "name", "pick"],
+        "back": ["self"],
+        "has_answers": ["self"],
+        "settle": ["self"],
+        "many": ["self"],
+        "core": ["self"],
+        "idle": ["self"],
+        "twin": ["self"],
+        "__len__": ["self"],
+        "__eq__": ["self", "other"],
+    },
+    desk.Desk: {
+        "__init__": ["self"],
+        "execute": ["self", "line"],
+    },
 }
 
 
@@ -116,8 +150,25 @@ class Interface(Guarded):
                     self.assertEqual(parameter.kind, parameter.POSITIONAL_OR_KEYWORD, name)
                     self.assertIs(parameter.default, parameter.empty, name)
 
+    def test_each_class_stands_in_its_file_with_its_methods(self):
+        for kind, module in ((live.Live, live), (desk.Desk, desk)):
+            self.assertEqual((kind.__module__, kind.__bases__), (module.__name__, (object,)))
+            self.assertEqual(inspect.getfile(kind), module.__file__)
+            for name, parameters in METHODS[kind].items():
+                method = vars(kind)[name]
+                self.assertTrue(inspect.isfunction(method), name)
+                self.assertEqual(list(inspect.signature(method).parameters), parameters, name)
+                for parameter in inspect.signature(method).parameters.values():
+                    self.assertEqual(parameter.kind, parameter.POSITIONAL_OR_KEYWORD, name)
+                    self.assertIs(parameter.default, parameter.empty, name)
+
+    def test_a_live_saying_has_its_properties_from_the_first(self):
+        for name in ("saying", "story"):
+            self.assertIsInstance(vars(live.Live)[name], property)
+            self.assertTrue(hasattr(live.Live((), ()), name))
+
     def test_the_package_is_a_folder_at_the_top_with_the_tests_beside_it(self):
         top = os.path.dirname(os.path.dirname(os.path.abspath(__file__)))
         self.assertEqual(os.path.abspath(onlyseen.__file__), os.path.join(top, "onlyseen", "__init__.py"))
-        for module in [errors] + list(PARAMETERS):
+        for module in [errors, live, desk] + list(PARAMETERS):
             self.assertEqual(os.path.dirname(os.path.abspath(module.__file__)), os.path.join(top, "onlyseen"))

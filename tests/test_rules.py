@@ -48,7 +48,7 @@ class Rules(Guarded):
     def test_l1_only_files_of_python_with_plain_names(self):
         self.assertIn("__init__.py", entries())
         listed = {"errors.py", "sayings.py", "answers.py", "refutations.py", "settling.py", "cores.py", "sights.py",
-                  "easy.py", "nets.py", "middles.py", "shorter.py"}
+                  "easy.py", "nets.py", "middles.py", "shorter.py", "live.py", "texts.py", "reading.py", "desk.py"}
         self.assertLessEqual(listed, set(entries()))
         for path in entries():
             self.assertFalse(os.path.islink(os.path.join(PACKAGE, path)), path)
