@@ -27,7 +27,7 @@ def solved(equations):
     heads = {}
     for index, (bits, odd) in enumerate(equations):
         made = 1 << index
-        while bits and bits.bit_length() in heads:
+        while bits.bit_length() in heads:
             others, their_odd, theirs = heads[bits.bit_length()]
             bits ^= others
             odd = odd != their_odd

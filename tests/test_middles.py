@@ -171,39 +171,51 @@ class Middles(Guarded):
         self.assertGreater(met, 30)
         self.assertLessEqual(max(sizes), 300)
 
-    def test_odd_against_even(self):
-        """No less than all five copies tell anything here; beside them each half tells copies of its own."""
+    def odd_against_even(self):
+        """A saying of 14 copies, five of which both halves tell, and the indexes of its halves.
+
+        One half asks for an odd number of True among the five, the other one for an even number.
+        """
         odd, even = odd_or_even("abcde", T), odd_or_even("abcde", F)
-        clauses = odd[:1] + [clause + (("f", T),) for clause in odd[1:]] + [(("f", F), ("g", T)), (("g", F),)]
+        clauses = odd[:1] + [clause + (("f", T),) for clause in odd[1:]] + [(("f", F), ("g", T)), (("g", F), ("x", T))]
+        clauses.append((("g", F), ("x", F), ("y", T)))
         others = [clause + (("h", F),) for clause in even[:3]] + even[3:] + [(("h", T),)]
-        saying = ((), tuple((name, ()) for name in "abcdefgh"), tuple(sorted(clauses + others)))
-        for half in (clauses, others):
-            first = tuple(index for index, clause in enumerate(saying[2]) if clause in half)
+        owns = tuple((name, ()) for name in "abcde") + (("f", ("x", "y")), ("g", ("x", "y")), ("h", ()))
+        saying = (("x", "y"), owns, tuple(sorted(clauses + others)))
+        return saying, [tuple(index for index, clause in enumerate(saying[2]) if clause in half)
+                        for half in (clauses, others)]
+
+    def test_odd_against_even(self):
+        saying, firsts = self.odd_against_even()
+        self.assertEqual(len(oracle.copies(saying)), 14)
+        for first in firsts:
             told = self.check(saying, first)
-            self.assertEqual(len(second.letters(told)), 5)
+            self.assertEqual(second.letters(told), {(name, ()) for name in "abcde"})
             self.assertGreater(second.size(told), 100)
 
     def test_greatest_marked_sayings(self):
+        """Sixty tuples within one another, and two thousand of them."""
         rng = random.Random(358)
-        saying = LINKED
-        first = (1, 2, 4)
-        right = middle(saying, first)
-        for depth in (57, 20):
-            for kind, end in (("both", ("true",)), ("either", ("false",))):
+        great, firsts = self.odd_against_even()
+        for saying, first in [(LINKED, (1, 2, 4)), (great, firsts[0]), (great, firsts[1])]:
+            right = middle(saying, first)
+            for kind, end, other in (("both", ("true",), ("false",)), ("either", ("false",), ("true",))):
                 value = right
-                while second.depth(value) < depth + 2:
+                while second.depth(value) < 59:
                     value = (kind, value, end) if rng.random() < 0.5 else (kind, end, value)
-                self.assertIs(is_middle(saying, first, value), T)
-                self.assertIs(is_middle(saying, first, (kind, value, ("false",) if kind == "both" else ("true",))), F)
-        # Nearly 2,000 tuples: the middle in many places, beside what is always so there.
-        always = ("either", ("letter", "a", (), T), ("letter", "a", (), F))
-        wide = right
-        while 2 * second.size(wide) + second.size(always) + 2 <= 2000:
-            wide = ("either", ("both", always, wide), wide)
-        self.assertGreater(second.size(wide), 1000)
-        self.assertIs(is_middle(saying, first, wide), T)
-        self.assertIs(is_middle(saying, first, ("both", wide, ("letter", "b", (), T))), F)
-        self.assertIs(is_middle(saying, first, ("either", wide, ("letter", "b", (), T))), F)
+                self.assertIs(is_middle(saying, first, (kind, value, end)), T)
+                self.assertEqual(second.depth((kind, value, end)), 60)
+                self.assertIs(is_middle(saying, first, (kind, value, other)), F)
+            parts = [right] * (2000 // (second.size(right) + 1))
+            while len(parts) > 1:
+                parts.append((rng.choice(("both", "either")), parts.pop(0), parts.pop(0)))
+            wide = parts[0]
+            self.assertGreater(second.size(wide), 1800)
+            self.assertLessEqual(second.depth(wide), 60)
+            self.assertLessEqual(second.size(wide), 2000)
+            self.assertIs(is_middle(saying, first, wide), T)
+            self.assertIs(is_middle(saying, first, ("both", wide, ("letter", "b", (), T))), F)
+            self.assertIs(is_middle(saying, first, ("either", wide, ("letter", "b", (), T))), F)
 
 
 class Marked(Guarded):

@@ -324,8 +324,7 @@ class BackRefused(Timed):
         for wrong in strangers() + [tuple(second.shorter(TOLD)[1])]:
             if type(wrong) is not list:
                 for function in (answers_back, refutation_back):
-                    with self.assertRaises((InvalidCut, TypeError)):
-                        function(TOLD, wrong, ())
+                    self.assert_refused(InvalidCut, wrong, lambda: function(TOLD, wrong, ()))
 
     def test_what_is_passed_stays_as_it_is(self):
         rng = random.Random(386)

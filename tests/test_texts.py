@@ -22,9 +22,12 @@ TOLD = (("x",), (("a", ()), ("b", ("x",))), ((("a", F), ("b", T)), (("a", T), ("
 # Names that are words of the texts, too.
 WORDS = (("on", "pick"), (("own", ("pick",)), ("put", ())), ((), (("on", F), ("own", T)), (("own", F),), (("own", T), ("pick", T))))
 
+# The first clause begins as an own does.
+OWN_AHEAD = (("pick", "x"), (("own", ("x",)),), ((("own", T), ("pick", F)), (("own", T), ("x", T))))
+
 
 def all_sayings():
-    found = SAYINGS + [TOLD, WORDS] + some_sayings(400, 120) + tight_sayings(401, 40, 20, 20)
+    found = SAYINGS + [TOLD, WORDS, OWN_AHEAD] + some_sayings(400, 120) + tight_sayings(401, 40, 20, 20)
     return found + great_sayings(402, 3) + largest_sayings() + parity_sayings()
 
 
@@ -52,7 +55,8 @@ class Texts(Guarded):
             (TOLD, "pick x ; own a: - ; own b: x ; -a b ; a -x"), (EMPTY, "pick -"), (BARRED, "pick - ; ."),
             (NO_CLAUSES, "pick x ; own a: - ; own b: x"), (NO_OWNS, "pick x y ; -x y ; x y"),
             (WORDS, "pick on pick ; own own: pick ; own put: - ; . ; -on own ; -own ; own pick"),
-            (BETWEEN, "pick m ; own a: m ; own z: - ; a m -z"), (NO_PICKS, "pick - ; own a: - ; own b: - ; -a b ; a -b"),
+            (BETWEEN, "pick m ; own a: m ; own z: - ; a m -z"),
+            (OWN_AHEAD, "pick pick x ; own own: x ; own -pick ; own x"), (NO_PICKS, "pick - ; own a: - ; own b: - ; -a b ; a -b"),
         ]:
             self.assert_same(show_saying(saying), text)
             self.assert_same(show_saying(saying=saying), text)
@@ -147,7 +151,7 @@ class Reading(Guarded):
 
     def test_one_sign_other_less_or_more(self):
         met = [0, 0]
-        for saying in [TOLD, WORDS, EMPTY, BARRED, NO_OWNS, SMALL, BETWEEN]:
+        for saying in [TOLD, WORDS, OWN_AHEAD, EMPTY, BARRED, NO_OWNS, SMALL, BETWEEN]:
             for text in changed(show_saying(saying)):
                 met[self.check_saying(text)] += 1
         self.assertGreater(min(met), 150)
